@@ -1,4 +1,4 @@
-package page
+package walk
 
 import (
 	"citadel/api"
@@ -51,10 +51,11 @@ func (s *second) allows(access int) bool {
 type first struct {
 	walk
 	env api.Env
+	ask Ask
 }
 
-func newFirst(m *ram.RAM, e api.Env, va uint64) first {
-	return first{walk{m: m, addr: va, table: e.Satp % (1 << numberBits), wrong: api.FaultPage}, e}
+func newFirst(m *ram.RAM, e api.Env, va uint64, ask Ask) first {
+	return first{walk{m: m, addr: va, table: e.Satp % (1 << numberBits), wrong: api.FaultPage}, e, ask}
 }
 
 // find walks to the leaf, and tells what is at fault first.
@@ -74,7 +75,7 @@ func (s *first) find(access int) int {
 // loadGuest reads an entry at a guest-physical address. The second stage is asked for a Load, whatever the access is
 // that the walk is for: nothing is stored into an entry, or fetched from it.
 func (s *first) loadGuest(gpa uint64) (entry, int) {
-	pa, _, fault := Guest(s.m, s.env.Root, gpa, api.Load)
+	pa, fault := s.ask(gpa, api.Load)
 	if fault != api.FaultNone {
 		return 0, fault
 	}

@@ -1,4 +1,4 @@
-package page
+package walk
 
 import "citadel/api"
 
